@@ -1,6 +1,10 @@
 package cnum
 
-import "strconv"
+import (
+	"strconv"
+
+	"colloquy/ascii"
+)
 
 const maxDigits = 15 // of a real, ahead of its exponent
 
@@ -93,7 +97,7 @@ func leadingSign(s string) (float64, int) {
 }
 
 func digitAt(s string, at int) bool {
-	return at < len(s) && '0' <= s[at] && s[at] <= '9'
+	return at < len(s) && ascii.Digit(s[at])
 }
 
 // inBounds tells whether a real with an exponent of two digits may have that value.

@@ -6,12 +6,12 @@ import (
 	"strings"
 
 	"colloquy/api"
+	"colloquy/ascii"
 )
 
 const (
-	maxWord   = 40 // bytes of a word
-	codeSize  = 3  // bytes of a written byte that doesn't stand for itself
-	hexDigits = "0123456789abcdef"
+	maxWord  = 40 // bytes of a word
+	codeSize = 3  // bytes of a written byte that doesn't stand for itself
 )
 
 // Right tells whether a text is a name.
@@ -32,8 +32,7 @@ func Write(s string) string {
 			continue
 		}
 		out.WriteByte('\\')
-		out.WriteByte(hexDigits[c>>4])
-		out.WriteByte(hexDigits[c&15])
+		out.WriteString(ascii.Hex(c))
 	}
 	return out.String()
 }
@@ -53,11 +52,11 @@ func Read(t string) (string, bool) {
 
 // Word tells whether a text is a word.
 func Word(s string) bool {
-	if len(s) < 1 || len(s) > maxWord || !letter(s[0]) {
+	if len(s) < 1 || len(s) > maxWord || !ascii.Letter(s[0]) {
 		return false
 	}
 	for at := range len(s) {
-		if c := s[at]; !letter(c) && !digit(c) && c != '-' && c != '_' {
+		if !ascii.InWord(s[at]) {
 			return false
 		}
 	}
@@ -71,7 +70,7 @@ func Cmp(a, b string) int {
 	for at < len(a) && at < len(b) {
 		size := 1
 		order := cmp.Compare(a[at], b[at])
-		if digit(a[at]) && digit(b[at]) {
+		if ascii.Digit(a[at]) && ascii.Digit(b[at]) {
 			run := leadingDigits(a[at:])
 			size = len(run)
 			order = cmpRuns(run, leadingDigits(b[at:]))
@@ -98,7 +97,7 @@ func cmpRuns(a, b string) int {
 
 func leadingDigits(s string) string {
 	for at := range len(s) {
-		if !digit(s[at]) {
+		if !ascii.Digit(s[at]) {
 			return s[:at]
 		}
 	}
@@ -116,7 +115,7 @@ func decode(t string) (string, bool) {
 		if at+codeSize > len(t) {
 			return "", false
 		}
-		high, low := strings.IndexByte(hexDigits, t[at+1]), strings.IndexByte(hexDigits, t[at+2])
+		high, low := ascii.HexValue(t[at+1]), ascii.HexValue(t[at+2])
 		if high < 0 || low < 0 {
 			return "", false
 		}
@@ -128,12 +127,4 @@ func decode(t string) (string, bool) {
 
 func plain(c byte) bool {
 	return '!' <= c && c <= '~' && c != '\\'
-}
-
-func letter(c byte) bool {
-	return 'a' <= c && c <= 'z' || 'A' <= c && c <= 'Z'
-}
-
-func digit(c byte) bool {
-	return '0' <= c && c <= '9'
 }
